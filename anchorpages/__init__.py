@@ -1,0 +1,1 @@
+"""Texts of indented nodes with anchors, read and written."""
