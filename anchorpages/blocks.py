@@ -259,7 +259,8 @@ class Blocks:
             if is_rest(text, place, end):
                 if not node.may_be:
                     raise Refused(place)
-                self.frames[-1].props = both_props(node.ahead, node.props)
+                top = self.frames[-1]
+                top.props = both_props(node.ahead, node.props)
                 self.place = past_line(text, place)
                 return -1
             if place == end:

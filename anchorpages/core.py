@@ -104,7 +104,7 @@ def may_have(kind, tag, schema):
 
 def is_all(word, signs):
     """Whether a word has at least one sign, and none but these."""
-    return word != "" and all(sign in signs for sign in word)
+    return word != "" and all([sign in signs for sign in word])
 
 
 def unsigned(word):
@@ -136,8 +136,8 @@ def float_text(word):
     if body in INFINITIES:
         return minus + ".inf"
     ahead, mark, exponent = body.replace("E", "e").partition("e")
-    whole, point, part = ahead.partition(".")
-    if not is_all(whole + part, FIGURES) or (whole == "" and point == ""):
+    whole, _, part = ahead.partition(".")
+    if not is_all(whole + part, FIGURES):
         return None
     if mark != "" and not is_all(unsigned(exponent), FIGURES):
         return None

@@ -83,7 +83,7 @@ def block_text(value, folded, indent, width, deep):
     parts = body.split(FEED)
     rows = [words_of(part, 0 if part[:1] in (" ", "\t") else width) for part in parts]
     # All lines stand behind the same blanks, so one of them may move the others.
-    aside = indent == 0 and any(is_like_mark(word) for row in rows for word in row)
+    aside = indent == 0 and any([is_like_mark(word) for row in rows for word in row])
     if body.lstrip(FEED)[0] == " ":
         sign = sign + ("2" if aside else str(deep))
     lines = [sign + ("-" if feeds == 0 else "" if feeds == 1 else "+")]

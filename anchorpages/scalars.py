@@ -77,7 +77,7 @@ def check_deep(deep, indent):
 
 def is_text(thing):
     """Whether this is a string without foreign signs."""
-    return isinstance(thing, str) and not any(is_foreign(sign) for sign in thing)
+    return isinstance(thing, str) and not any([is_foreign(sign) for sign in thing])
 
 
 def is_value(thing):
@@ -102,7 +102,7 @@ def has_text(value, style, context):
 
 
 def has_white_beside_feed(value):
-    return any(pair in value for pair in (" \n", "\n ", "\t\n", "\n\t"))
+    return any([pair in value for pair in (" \n", "\n ", "\t\n", "\n\t")])
 
 
 def fits_plain(value, inside, flat):
@@ -132,6 +132,12 @@ def text_of_scalar(value, style, context, indent, width, deep):
     return line_text(value, style, indent, 0 if context in FLAT else width)
 
 
+def block_value(whole, above):
+    """The value of the block scalar with its header at place 1, and the place behind its lines."""
+    found = read_block_scalar(whole, 1, above)
+    return found[0], found[3]
+
+
 def value_read(text, style, context, indent, deep):
     """The value of a text without foreign signs, which begins as its style asks; or None."""
     inside = context in INSIDE
@@ -143,7 +149,7 @@ def value_read(text, style, context, indent, deep):
     if style in ("literal", "folded"):
         if context != "block":
             return None
-        value, _, _, stop = read_block_scalar(whole, 1, indent - deep)
+        value, stop = block_value(whole, indent - deep)
         end = len(whole)
     elif style == "plain":
         if not begins_plain(whole, 1, inside):

@@ -1,0 +1,72 @@
+"""The examples of the document, as they stand there."""
+
+import unittest
+
+from anchorpages.core import canonical, resolved, tag_needed, word_tag
+from anchorpages.errors import BadTag, NoFit, NoStyle, PageError, Refused
+from anchorpages.reader import read, refused
+from anchorpages.scalars import fits, least, read_scalar, written
+
+
+class Examples(unittest.TestCase):
+    def test_events(self):
+        self.assertEqual(read("a:\n- 'b'  # c\n"), [
+            ('document', False), ('mapping', None, None, 'block', 0), ('scalar', None, None, 'plain', 'a', 0, 1),
+            ('sequence', None, None, 'block', 3), ('scalar', None, None, 'single', 'b', 5, 8), ('close', 8), ('close', 8),
+            ('over', False)])
+        self.assertEqual([refused(text) for text in ("a: b: c", "[a, b", "a: [\n]", "|\n   \n a", "- a\n b")],
+                         [5, 5, 5, 7, None])
+        self.assertEqual([event[4] for event in read("- >\n  a\n  b\n\n  c\n   d\n- |-\n  e\n\n") if event[0] == "scalar"],
+                         ['a b\nc\n d\n', 'e'])
+        self.assertEqual([event[1] for event in read("&x\na: &y b\nc: *y") if event[0] != "close"],
+                         [False, 'x', None, 'y', None, 'y', False])
+
+    def test_scalars(self):
+        self.assertIs(fits("a: b", "plain", "block"), False)
+        self.assertIs(fits("a:b", "plain", "flow"), True)
+        self.assertIs(fits("--- a", "plain", "block"), True)
+        self.assertIs(fits("a ", "plain", "key"), False)
+        self.assertEqual(written("it's", "single", "key", 0), "'it''s'")
+        self.assertEqual(written(" a\nb", "literal", "block", 2).split("\n"), ["|1-", "   a", "  b"])
+        self.assertEqual(written(" a\nb", "literal", "block", 2, deep=2).split("\n"), ["|2-", "   a", "  b"])
+        self.assertEqual(least("", "flow", 0), ("single", "''"))
+        self.assertEqual(written("one two three", "plain", "block", 2, 8).split("\n"), ["one two", "  three"])
+        self.assertEqual(read_scalar("|\n ab", "literal", "block", 1), "ab\n")
+
+    def test_words(self):
+        words = ["0x1F", "1e3", "+.inf", "0b1", "yes", "-0x1", ".", "1_000"]
+        self.assertEqual([word_tag(word) for word in words], ["!!int", "!!float", "!!float"] + ["!!str"] * 5)
+        self.assertEqual(canonical("!!float", "-120.50"), "-1205e-1")
+        self.assertEqual(canonical("!!float", "700"), "7e2")
+        self.assertEqual(canonical("!!float", "-0.0"), "0e0")
+        self.assertEqual(canonical("!!int", "0o17"), "15")
+        self.assertIsNone(canonical("!!int", "1.0"))
+
+    def test_tags(self):
+        self.assertEqual(resolved("scalar", None, "plain", "0x10", "core"), ("!!int", "16"))
+        self.assertEqual(resolved("scalar", "!", "plain", "0x10", "core"), ("!!str", "0x10"))
+        with self.assertRaises(BadTag):
+            resolved("scalar", "!!float", "plain", "0x10", "core")
+        self.assertEqual(resolved("scalar", "!!int", "double", "12", "core"), ("!!int", "12"))
+        self.assertEqual(resolved("scalar", None, "double", "12", "core"), ("!!str", "12"))
+        self.assertEqual(tag_needed("scalar", "!!str", "12", "plain", "core"), "!")
+        self.assertIsNone(tag_needed("scalar", "!!str", "12", "double", "core"))
+        self.assertIsNone(tag_needed("scalar", "!!int", "12", "plain", "core"))
+        self.assertEqual(tag_needed("scalar", "!!int", "12", "double", "core"), "!!int")
+        self.assertIsNone(tag_needed("scalar", "!!str", "a", "plain", "core"))
+
+    def test_key_that_fits_no_block(self):
+        self.assertEqual(read("a:: b")[2], ("scalar", None, None, "plain", "a:", 0, 2))
+        self.assertFalse(fits("a:", "plain", "block"))
+
+    def test_errors(self):
+        for kind, work in ((Refused, lambda: read("]")), (NoFit, lambda: written("", "plain", "block", 0)),
+                           (NoStyle, lambda: fits("", "", ""))):
+            with self.assertRaises(kind) as caught:
+                work()
+            self.assertIsInstance(caught.exception, PageError)
+            self.assertIsInstance(caught.exception, ValueError)
+
+
+if __name__ == "__main__":
+    unittest.main()
