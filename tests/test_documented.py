@@ -4,6 +4,10 @@ import unittest
 
 from anchorpages.core import canonical, resolved, tag_needed, word_tag
 from anchorpages.errors import BadTag, NoFit, NoStyle, PageError, Refused
+from anchorpages.graphs import graph_of, ringed, rows_of
+from anchorpages.likeness import apart, equal
+from anchorpages.likeness import least as least_graph
+from anchorpages.numbers import Number, is_less, least_word
 from anchorpages.reader import read, refused
 from anchorpages.scalars import fits, least, read_scalar, written
 
@@ -54,6 +58,28 @@ class Examples(unittest.TestCase):
         self.assertIsNone(tag_needed("scalar", "!!int", "12", "plain", "core"))
         self.assertEqual(tag_needed("scalar", "!!int", "12", "double", "core"), "!!int")
         self.assertIsNone(tag_needed("scalar", "!!str", "a", "plain", "core"))
+
+    def test_graphs(self):
+        graph = graph_of([("sequence", "x", "!!seq"), ("scalar", "y", "!!str", "b"), ("alias", "x"), ("alias", "y"), ("close",)])
+        self.assertEqual([graph.nodes, ringed(graph), rows_of(graph)[:2]], [
+            (('sequence', '!!seq', (1, 0, 1)), ('scalar', '!!str', 'b')), [0], [('sequence', 'a1', '!!seq'), ('scalar', 'a2', '!!str', 'b')]])
+
+    def test_likeness(self):
+        one = graph_of([("sequence", "x", "!!seq"), ("alias", "x"), ("close",)])
+        two = graph_of([("sequence", "x", "!!seq"), ("sequence", None, "!!seq"), ("alias", "x"), ("close",), ("close",)])
+        three = graph_of([("sequence", None, "!!seq"), ("sequence", None, "!!seq"), ("close",), ("close",)])
+        self.assertEqual([equal(one, two), least_graph(two) == one, apart(one, three)], [True, True, 1])
+
+    def test_numbers(self):
+        told = [("!!int", "12", "12"), ("!!int", "1000000", "0xF4240"), ("!!int", "-1000000", "-1000000"), ("!!float", "1e0", "1."), ("!!float", "5e-1", ".5"),
+                ("!!float", "1e3", "1E3"), ("!!float", "1e1000", "10E999"), ("!!float", "0e0", ".0"), ("!!float", ".inf", ".INF"), ("!!bool", "true", "TRUE")]
+        for tag, content, word in told:
+            self.assertEqual(least_word(tag, content), word)
+        with self.assertRaises(BadTag) as caught:
+            least_word("!!seq", "")
+        self.assertEqual(caught.exception.place, 0)
+        self.assertEqual(Number("!!int", "1000"), Number("!!float", "1e3"))
+        self.assertIs(is_less(Number("!!float", "1e999999999"), Number("!!int", "1")), False)
 
     def test_key_that_fits_no_block(self):
         self.assertEqual(read("a:: b")[2], ("scalar", None, None, "plain", "a:", 0, 2))

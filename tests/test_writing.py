@@ -10,9 +10,9 @@ PACKAGE = os.path.join(os.path.dirname(os.path.dirname(os.path.abspath(__file__)
 BUILTINS = set("""len range enumerate zip min max sum abs sorted reversed int str bool list tuple dict set isinstance
     ord repr any all divmod ValueError KeyError""".split())
 METHODS = set("""append clear copy count endswith extend find get index insert isdigit items join keys lower lstrip
-    partition pop replace reverse rfind rpartition rstrip setdefault split startswith strip upper values zfill""".split())
-NODES = (ast.Global, ast.AsyncFunctionDef, ast.Await, ast.Starred, ast.Set, ast.SetComp, ast.Yield, ast.YieldFrom,
-         ast.Lambda, ast.AnnAssign, ast.NamedExpr, ast.Div, ast.JoinedStr, ast.With, ast.Import, ast.Nonlocal)
+    partition pop replace reverse rfind rpartition rstrip setdefault split startswith strip upper values zfill add""".split())
+NODES = (ast.Global, ast.AsyncFunctionDef, ast.Await, ast.Starred, ast.Set, ast.Yield, ast.YieldFrom, ast.GeneratorExp,
+         ast.Lambda, ast.AnnAssign, ast.NamedExpr, ast.Div, ast.With, ast.Import, ast.Nonlocal)
 BARRED = set("""register mro elements open input law version_info with_traceback add_note compile copyright credits
     delattr dir eval exec exit gc globals help id license locals os quit super type vars sys""".split())
 
@@ -27,6 +27,20 @@ def modules():
 def trees():
     for name, source in modules():
         yield name, ast.parse(source)
+
+
+def is_set(node):
+    """Whether a set is made here."""
+    return isinstance(node, ast.SetComp) or (
+        isinstance(node, ast.Call) and isinstance(node.func, ast.Name) and node.func.id == "set")
+
+
+def is_call_of(node, names):
+    return isinstance(node, ast.Call) and isinstance(node.func, ast.Name) and node.func.id in names
+
+
+def parents_of(tree):
+    return {child: node for node in ast.walk(tree) for child in ast.iter_child_nodes(node)}
 
 
 def own_names(tree):
@@ -59,7 +73,20 @@ class Writing(unittest.TestCase):
                 if isinstance(node, ast.FunctionDef):
                     with self.subTest(name=name, function=node.name):
                         self.assertLessEqual(node.end_lineno - node.lineno + 1, 40)
-                        self.assertEqual(node.decorator_list, [])
+                        self.assertLessEqual([each.id for each in node.decorator_list], ["property"])
+
+    def test_properties_change_nothing(self):
+        """Each only tells an attribute of its object, and no method has its name."""
+        for name, tree in trees():
+            for node in ast.walk(tree):
+                if isinstance(node, ast.FunctionDef) and node.decorator_list:
+                    with self.subTest(name=name, function=node.name):
+                        told = node.body[-1]
+                        self.assertEqual(len(node.body), 2)
+                        self.assertIsInstance(told, ast.Return)
+                        self.assertIsInstance(told.value, ast.Attribute)
+                        self.assertEqual(told.value.value.id, "self")
+                        self.assertNotIn(node.name, METHODS)
 
     def test_imports(self):
         takes = {}
@@ -77,16 +104,43 @@ class Writing(unittest.TestCase):
             for name in free:
                 del takes[name]
 
+    def test_sets(self):
+        """A set is counted or sorted where it is made, or it has a name and is only asked and added to."""
+        for name, tree in trees():
+            for work in ast.walk(tree):
+                if isinstance(work, ast.FunctionDef):
+                    with self.subTest(name=name, function=work.name):
+                        self.check_sets(work, parents_of(work))
+
+    def check_sets(self, work, parents):
+        made = [parents[node] for node in ast.walk(work) if is_set(node)]
+        named = [parent for parent in made if isinstance(parent, ast.Assign)]
+        names = [parent.targets[0].id for parent in named]
+        self.assertEqual(len(names), len(set(names)))
+        self.assertTrue(all(parent in named or is_call_of(parent, ("sorted", "len")) for parent in made))
+        for node in ast.walk(work):
+            if isinstance(node, ast.Name) and node.id in names and node not in [parent.targets[0] for parent in named]:
+                parent = parents[node]
+                asked = isinstance(parent, ast.Compare) and isinstance(parent.ops[-1], (ast.In, ast.NotIn)) and node is parent.comparators[-1]
+                added = isinstance(parent, ast.Attribute) and parent.attr in ("add", "discard")
+                self.assertTrue(asked or added or is_call_of(parent, ("len", "sorted")))
+
+    def test_errors_of_python_are_not_caught(self):
+        caught = {handler.type.id for _, tree in trees() for handler in ast.walk(tree) if isinstance(handler, ast.ExceptHandler)}
+        self.assertLessEqual(caught, {"Refused", "KeyError"})
+
     def test_only_what_is_allowed(self):
         own = set()
         for _, tree in trees():
             own |= own_names(tree)
+        self.assertEqual(own & {"add", "discard"}, set())
         for name, tree in trees():
+            decorators = {each.id for node in ast.walk(tree) if isinstance(node, ast.FunctionDef) for each in node.decorator_list}
             for node in ast.walk(tree):
                 with self.subTest(name=name, line=getattr(node, "lineno", 0)):
                     self.assertNotIsInstance(node, NODES)
                     if isinstance(node, ast.Name) and hasattr(builtins, node.id):
-                        self.assertIn(node.id, BUILTINS)
+                        self.assertIn(node.id, BUILTINS | decorators)
                     if isinstance(node, ast.Call) and isinstance(node.func, ast.Attribute):
                         self.assertIn(node.func.attr, METHODS | own)
                     if isinstance(node, ast.Constant) and isinstance(node.value, str):
@@ -99,7 +153,7 @@ class Writing(unittest.TestCase):
             classes = {node.name for node in tree.body if isinstance(node, ast.ClassDef)}
             top = [target.id for node in tree.body if isinstance(node, ast.Assign) for target in node.targets]
             self.assertEqual(len(top), len(set(top)))
-            for bound in list(bound_names(tree)) + sorted(own_names(tree)):
+            for bound in list(bound_names(tree)) + sorted(own_names(tree) - {"__eq__"}):
                 with self.subTest(name=name, bound=bound):
                     self.assertFalse(hasattr(builtins, bound))
                     self.assertNotIn(bound, BARRED)
