@@ -2,14 +2,19 @@
 
 import unittest
 
+from anchorpages.composing import composed
 from anchorpages.core import canonical, resolved, tag_needed, word_tag
-from anchorpages.errors import BadTag, NoFit, NoStyle, PageError, Refused
+from anchorpages.edits import changed, dropped, put, renamed
+from anchorpages.errors import BadTag, NoEvents, NoFit, NoStyle, PageError, Refused
 from anchorpages.graphs import graph_of, ringed, rows_of
 from anchorpages.likeness import apart, equal
 from anchorpages.likeness import least as least_graph
+from anchorpages.logs import Page, replayed
 from anchorpages.numbers import Number, is_less, least_word
 from anchorpages.reader import read, refused
+from anchorpages.rows import bare
 from anchorpages.scalars import fits, least, read_scalar, written
+from anchorpages.writers import events_of, events_text, text_of
 
 
 class Examples(unittest.TestCase):
@@ -92,6 +97,39 @@ class Examples(unittest.TestCase):
                 work()
             self.assertIsInstance(caught.exception, PageError)
             self.assertIsInstance(caught.exception, ValueError)
+
+    def test_events_text(self):
+        rows = [("document", False), ("mapping", None, None, "block"), ("scalar", "x", None, "plain", "a"),
+                ("sequence", None, None, "block"), ("sequence", None, None, "block"), ("alias", "x"), ("close",),
+                ("scalar", None, None, "literal", "b\n"), ("close",), ("close",), ("over", False)]
+        self.assertEqual(events_text(rows).split("\n"), ['&x a:', '  - - *x', '  - |', '    b', ''])
+        self.assertEqual(bare(read(events_text(rows))), rows)
+
+    def test_no_text(self):
+        """Not all bare events that can be read have a text: a plain key `a:` does not fit "block"."""
+        rows = bare(read("a:: b"))
+        self.assertEqual(rows[2], ("scalar", None, None, "plain", "a:"))
+        with self.assertRaises(NoEvents) as caught:
+            events_text(rows)
+        self.assertEqual(caught.exception.index, 2)
+
+    def test_text_of_graphs(self):
+        for form in ("block", "flow"):
+            graphs = composed(read("&x a: [*x, b]\n--- 1\n"), "core")
+            text = text_of(graphs, "core", form)
+            self.assertEqual(bare(read(text)), events_of(graphs, "core", form))
+            self.assertEqual(composed(read(text), "core"), graphs)
+
+    def test_edits(self):
+        text = "- &x a  # one\n- [*x, b]\n"
+        self.assertEqual([dropped(text, 5), renamed(text, 2, "yy"), changed(text, put(text, 1, 1, [("alias", "x")])).split("\n")],
+                         [[(21, 22, '')], [(3, 4, 'yy'), (18, 19, 'yy')], ['- &x a  # one', '- *x', '- [*x, b]', '']])
+
+    def test_pages(self):
+        page = Page("a: &x b")
+        self.assertEqual([page.say(line) for line in ("rename 3 y", "event 3", "drop 3", "drop 2", "undo", "text")],
+                         ['ok', '"scalar" "y" none "plain" "b" 3 7', 'refused', 'ok', 'yes', '"a: &y b"'])
+        self.assertEqual(replayed(page.log()).past(), [('rename', 3, 'y')])
 
 
 if __name__ == "__main__":

@@ -127,7 +127,7 @@ class Writing(unittest.TestCase):
 
     def test_errors_of_python_are_not_caught(self):
         caught = {handler.type.id for _, tree in trees() for handler in ast.walk(tree) if isinstance(handler, ast.ExceptHandler)}
-        self.assertLessEqual(caught, {"Refused", "KeyError"})
+        self.assertLessEqual(caught, {"Refused", "KeyError", "PageError"})
 
     def test_only_what_is_allowed(self):
         own = set()
@@ -157,6 +157,10 @@ class Writing(unittest.TestCase):
                 with self.subTest(name=name, bound=bound):
                     self.assertFalse(hasattr(builtins, bound))
                     self.assertNotIn(bound, BARRED)
+            methods = {each.name for node in tree.body if isinstance(node, ast.ClassDef) for each in node.body if isinstance(each, ast.FunctionDef)}
+            functions = {node.name for node in tree.body if isinstance(node, ast.FunctionDef)}
+            for bound in list(bound_names(tree)) + sorted(own_names(tree) - (methods - functions)):
+                with self.subTest(name=name, bound=bound):
                     self.assertNotIn(bound, taken)
             for bound in bound_names(tree):
                 with self.subTest(name=name, bound=bound):
@@ -170,14 +174,24 @@ class Writing(unittest.TestCase):
                         self.assertIsInstance(node.value, ast.Name)
 
     def test_methods_are_no_attributes(self):
-        for name, tree in trees():
+        """No name is a method of one class and an attribute of any."""
+        methods, stored = set(), set()
+        for _, tree in trees():
             for node in tree.body:
                 if isinstance(node, ast.ClassDef):
-                    methods = {each.name for each in node.body if isinstance(each, ast.FunctionDef)}
-                    stored = {each.attr for each in ast.walk(node)
-                              if isinstance(each, ast.Attribute) and isinstance(each.ctx, ast.Store)}
-                    with self.subTest(name=name, kind=node.name):
-                        self.assertEqual(methods & stored, set())
+                    methods |= {each.name for each in node.body if isinstance(each, ast.FunctionDef)}
+                    stored |= {each.attr for each in ast.walk(node) if isinstance(each, ast.Attribute) and isinstance(each.ctx, ast.Store)}
+        self.assertEqual(methods & stored, set())
+
+    def test_tables_are_plain(self):
+        """What stands at module level is written out there, and tables contain no lists or dicts."""
+        for name, tree in trees():
+            for node in tree.body:
+                if isinstance(node, ast.Assign):
+                    with self.subTest(name=name, line=node.lineno):
+                        inner = list(ast.walk(node.value))
+                        self.assertFalse(any(isinstance(each, (ast.Name, ast.Call)) for each in inner))
+                        self.assertFalse(any(isinstance(each, (ast.List, ast.Dict)) for each in inner[1:]))
 
 
 if __name__ == "__main__":
